@@ -1,0 +1,1 @@
+"""Ringindexes: two counters over a ring of slots, decided for every size."""

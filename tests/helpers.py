@@ -1,0 +1,24 @@
+"""What the tests share: a check for the very class of an error, and objects of many kinds."""
+
+import unittest
+
+from ringindexes.errors import RingError
+
+# True and False are no integers; tuples and lists are different.
+NO_INTEGERS = [True, False, None, "", "1", "N", b"1", [], [1], (), (1,), {}, {1: 1}, object(), int]
+
+
+class RingCase(unittest.TestCase):
+    """A test case that asks for the very class of an error."""
+
+    def assert_error(self, kind, call, *args, **told):
+        """`call` raises an error of the very class `kind`; the error is returned."""
+        with self.assertRaises(RingError) as caught:
+            call(*args, **told)
+        self.assertIs(type(caught.exception), kind)
+        return caught.exception
+
+    def assert_integer(self, found, wanted):
+        """`found` is this value of class int, not True or False."""
+        self.assertEqual(found, wanted)
+        self.assertIs(type(found), int)

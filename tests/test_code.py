@@ -1,0 +1,74 @@
+"""The form of the code, as far as it is plainly counted, and where the interface stands."""
+
+import ast
+import importlib
+import inspect
+import unittest
+from pathlib import Path
+
+FOLDER = Path(__file__).resolve().parent.parent / "ringindexes"
+FILES = sorted(FOLDER.glob("*.py"))
+
+CLASSES = {
+    "forms": {"Form": ["__call__", "__add__", "__radd__", "__sub__", "__rsub__", "__mul__", "__rmul__", "__neg__",
+                       "__eq__", "__lt__", "__le__", "__gt__", "__ge__", "read"]},
+    "counters": {"Counter": ["value", "change", "__add__", "__radd__", "__sub__", "__iadd__", "__isub__",
+                             "__floordiv__", "__mod__", "__and__", "__eq__"]},
+    "schemes": {"Scheme": ["wrap", "slot", "empty", "full", "when", "change", "remade", "__eq__", "spare", "doubled",
+                           "masked", "counted", "noted", "read"]},
+}
+
+FUNCTIONS = {"forms": ["show_form"], "schemes": ["show_scheme"]}
+
+
+def named(module, name):
+    return getattr(importlib.import_module(f"ringindexes.{module}"), name)
+
+
+class CodeTest(unittest.TestCase):
+
+    def test_the_folder_holds_files_of_python_alone(self):
+        others = [path.name for path in FOLDER.iterdir() if path.suffix != ".py" and path.name != "__pycache__"]
+        self.assertEqual(others, [])
+        self.assertIn("__init__.py", [path.name for path in FILES])
+
+    def test_characters_and_lengths(self):
+        for path in FILES:
+            text = path.read_bytes().decode("ascii")
+            self.assertEqual([sign for sign in text if sign != "\n" and not " " <= sign <= "~"], [], path.name)
+            self.assertLessEqual(len(text.splitlines()), 399, path.name)
+            self.assertLessEqual(max(map(len, text.splitlines())), 120, path.name)
+
+    def test_functions_are_small(self):
+        for path in FILES:
+            for node in ast.walk(ast.parse(path.read_text())):
+                if isinstance(node, ast.FunctionDef):
+                    self.assertLessEqual(node.end_lineno - node.lineno + 1, 40, f"{path.name}: {node.name}")
+
+    def test_imports_are_from_the_package(self):
+        library = {"heapq", "math", "itertools", "collections", "__future__"}
+        for path in FILES:
+            for node in ast.walk(ast.parse(path.read_text())):
+                self.assertNotIsInstance(node, ast.Import, path.name)
+                if isinstance(node, ast.ImportFrom):
+                    self.assertEqual(node.level, 0, path.name)
+                    self.assertTrue(node.module in library or node.module.startswith("ringindexes."), path.name)
+
+
+class InterfaceTest(unittest.TestCase):
+
+    def test_classes_and_their_methods_stand_where_they_are_listed(self):
+        for module, classes in CLASSES.items():
+            for name, methods in classes.items():
+                kind = named(module, name)
+                self.assertTrue(inspect.isclass(kind))
+                self.assertEqual(kind.__module__, f"ringindexes.{module}")
+                for method in methods:
+                    self.assertIn(method, vars(kind), f"{name}.{method}")
+
+    def test_functions_stand_where_they_are_listed(self):
+        for module, functions in FUNCTIONS.items():
+            for name in functions:
+                function = named(module, name)
+                self.assertTrue(inspect.isfunction(function))
+                self.assertEqual(function.__module__, f"ringindexes.{module}")
