@@ -61,11 +61,11 @@ class Form:
     @staticmethod
     def read(text):
         """The form with exactly this text."""
-        form = None
-        if isinstance(text, str):
-            form = form_of_words(text.split(" "))
+        if not isinstance(text, str):
+            raise NoForm("the text of a form is a string")
+        form = form_of_words(text.split(" "))
         # Reading is more generous than writing; only what is written so again is a form's text.
-        if form is None or show_form(form) != text:
+        if show_form(form) != text:
             raise NoForm("this is no text of a form")
         return form
 
@@ -76,12 +76,10 @@ def form_at(form, n):
 
 
 def as_form(thing):
-    """A form for itself, an integer as a form without a slope."""
+    """A form for itself, an integer as a form without a slope; NoForm for any other object."""
     if isinstance(thing, Form):
         return thing
-    if is_whole(thing):
-        return Form(0, thing)
-    raise NoForm("only forms and integers stand beside a form")
+    return Form(0, thing)
 
 
 def place_of(thing):
@@ -113,16 +111,16 @@ def show_slope(slope):
 
 
 def form_of_words(words):
-    """The form of a text that is cut at its blanks, or None."""
+    """The form that is written with these words; NoForm if a part cannot be read."""
     slope, base = 0, 0
-    if len(words) == 1 and not words[0].endswith("N"):
-        base = read_signed(words[0])
-    else:
+    if words[0].endswith("N"):
         slope = read_slope(words[0])
+    else:
+        base = read_signed(words[0])
     if len(words) == 3:
-        base = read_base(words[1], words[2])
-    if len(words) not in (1, 3) or slope is None or base is None:
-        return None
+        signed = words[1] + words[2]
+        base = read_signed(signed.removeprefix("+"))
+    # What was not read is None, and that is no integer for a form.
     return Form(slope, base)
 
 
@@ -132,18 +130,7 @@ def read_slope(word):
         return 1
     if word == "-N":
         return -1
-    if word.endswith("*N"):
-        return read_signed(word.removesuffix("*N"))
-    return None
-
-
-def read_base(sign, word):
-    """The base that is written by a sign and a number, or None."""
-    if sign == "+":
-        return read_number(word, MOST_DIGITS)
-    if sign == "-":
-        return read_signed(f"-{word}")
-    return None
+    return read_signed(word.removesuffix("*N"))
 
 
 def read_signed(word):

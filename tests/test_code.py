@@ -16,9 +16,16 @@ CLASSES = {
                              "__floordiv__", "__mod__", "__and__", "__eq__"]},
     "schemes": {"Scheme": ["wrap", "slot", "empty", "full", "when", "change", "remade", "__eq__", "spare", "doubled",
                            "masked", "counted", "noted", "read"]},
+    "rings": {"Slots": ["__getitem__", "__setitem__", "__len__"], "Tests": ["is_empty", "is_full"],
+              "Ring": ["put", "put_all", "take", "put_at", "take_at", "number", "has_note", "__bool__"]},
+    "queues": {"Queue": ["put", "take", "oldest", "__len__", "__bool__", "__contains__"],
+               "Watch": ["put", "take", "broken", "deeds", "held"]},
+    "runs": {"Run": ["pieces", "all_deeds", "__add__", "__iadd__", "__mul__", "__eq__", "__len__", "__getitem__",
+                     "read"]},
 }
 
-FUNCTIONS = {"forms": ["show_form"], "schemes": ["show_scheme"]}
+FUNCTIONS = {"forms": ["show_form"], "schemes": ["show_scheme"], "runs": ["show_run"],
+             "slots": ["modulus_of", "slot_of", "gap_of"]}
 
 
 def named(module, name):

@@ -3,7 +3,10 @@
 from ringindexes.counters import Counter
 from ringindexes.errors import NoScheme
 from ringindexes.forms import Form, show_form
+from ringindexes.queues import Watch
+from ringindexes.runs import Run, show_run
 from ringindexes.schemes import Scheme, show_scheme
+from ringindexes.slots import gap_of, modulus_of, slot_of
 from tests.helpers import RingCase
 
 
@@ -23,3 +26,34 @@ class ExamplesTest(RingCase):
 
     def test_a_text_that_is_none(self):
         self.assertEqual(self.assert_error(NoScheme, Scheme.read, "M = N").part, "text")
+
+    def test_slots(self):
+        scheme = Scheme.read("M = 2**3; slot rest; empty same; full diff = N; when refuse")
+        self.assertEqual([modulus_of(scheme, 3), slot_of(scheme, 3, 7), gap_of(scheme, 3, 6)], [8, 1, 2])
+
+    def test_the_run_of_a_verdict_done_by_a_watch(self):
+        scheme = Scheme.read("M = 2**3; slot rest; empty same; full diff = N; when refuse")
+        run = Run.read("6 pair; 3 put; 1 take")
+        watch = Watch(scheme, 3)
+        for times, word in run.pieces:
+            for _ in range(times):
+                for deed in {"put": [watch.put], "take": [watch.take], "pair": [watch.put, watch.take]}[word]:
+                    deed()
+        self.assertEqual([show_run(run), run.all_deeds()], ["6 pair; 3 put; 1 take", 16])
+        self.assertEqual(watch.broken, ("wrong", 16, 7, 9))
+
+    def test_an_outside_slot_at_a_smaller_size(self):
+        watch = Watch(Scheme.doubled().remade(wrap=Form(3, 0)), 4)
+        for _ in range(8):
+            watch.put()
+            watch.take()
+        watch.put()
+        self.assertEqual(watch.broken, ("outside", 17, None, None))
+
+    def test_the_run_of_the_console(self):
+        watch = Watch(Scheme.read("M = N; slot rest; empty note; full note; when refuse"), 7)
+        for _ in range(9):
+            watch.put()
+        for _ in range(2):
+            watch.take()
+        self.assertEqual([watch.broken, watch.held], [None, 5])
