@@ -1,4 +1,4 @@
-"""What several files need: which objects are integers and sizes, and how numbers are read."""
+"""What several files need: which objects are integers and sizes, the lesser number, and how numbers are read."""
 
 from ringindexes.errors import NoSize
 
@@ -18,6 +18,11 @@ def is_whole_from(thing, low, high):
 def is_word_of(thing, words):
     """Whether the object is one of these strings."""
     return isinstance(thing, str) and thing in words
+
+
+def lesser(one, other):
+    """The lesser one of two numbers."""
+    return one if one < other else other
 
 
 def check_size(n):

@@ -2,6 +2,7 @@
 
 from ringindexes.errors import NoCounter, NoRing
 from ringindexes.forms import Form, form_at
+from ringindexes.gaps import gaps_from
 from ringindexes.helpers import check_size, is_whole_from
 
 
@@ -26,11 +27,8 @@ def gap_of(scheme, n, c):
     check_counter(c, modulus)
     if slot_at(scheme.slot, n, c) is None:
         return None
-    if scheme.slot == "mask":
-        return mask_gap(modulus, n, c)
-    if scheme.slot == "off":
-        return off_gap(modulus, n, c)
-    return rest_gap(modulus, n, c)
+    # A counter is the first one at or behind itself of its own class, and of no other.
+    return min([int(gap) for steps, gap in gaps_from(scheme.slot, n, modulus, c) if steps == 0])
 
 
 def wrap_at(wrap, n):
@@ -57,30 +55,3 @@ def slot_at(kind, n, c):
     if c < 2 * n:
         return c - n
     return None
-
-
-def rest_gap(modulus, n, c):
-    """The gap of a counter whose slot is its rest."""
-    if c + n < modulus:
-        return n
-    # Beyond the wrap the least counter with the same rest is that rest itself.
-    return modulus - c + c % n
-
-
-def off_gap(modulus, n, c):
-    """The gap of a counter below 2 * n: only c - n or c + n can have the same slot."""
-    if c >= n:
-        return modulus - n
-    if c + n < modulus:
-        return n
-    return modulus
-
-
-def mask_gap(modulus, n, c):
-    """The gap of a counter whose slot is some of its bits; the modulus is a power of two."""
-    fixed = (n - 1) & (modulus - 1)
-    free = modulus - 1 - fixed
-    here = c & free
-    # With all fixed bits set, adding one carries over them, from one pattern of the free bits to the next.
-    following = ((here | fixed) + 1) & free
-    return (following - here - 1) % modulus + 1

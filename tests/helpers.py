@@ -2,10 +2,15 @@
 
 import unittest
 
+from ringindexes.counters import Counter
 from ringindexes.errors import RingError
+from ringindexes.forms import Form
+from ringindexes.schemes import Scheme
 
 # True and False are no integers; tuples and lists are different.
 NO_INTEGERS = [True, False, None, "", "1", "N", b"1", [], [1], (), (1,), {}, {1: 1}, object(), int]
+
+NO_SIZES = NO_INTEGERS + [0, -1, 10 ** 30 + 1, 10 ** 40, Form(0, 3), Counter(8, 3), Scheme.spare()]
 
 
 class RingCase(unittest.TestCase):

@@ -182,3 +182,110 @@ DEEDS = (
     "tpptpppttpppptttpppppttttt",
     "pptppptppppttppptppptptttpp",
 )
+
+
+def plain_slots(scheme, n):
+    """The slots of all counters of a small modulus."""
+    return [plain_slot(scheme.slot, n, c) for c in range(plain_modulus(scheme.wrap, n))]
+
+
+def plain_alike(scheme, n):
+    """The least counter with the least gap, and the gap, counted step by step."""
+    slots = plain_slots(scheme, n)
+    if None in slots:
+        return None
+    gaps = [plain_gap(slots, c) for c in range(len(slots))]
+    return gaps.index(min(gaps)), min(gaps)
+
+
+def plain_window(scheme, n):
+    """The greatest number of counters in a row that have unlike slots, wherever they begin."""
+    slots = plain_slots(scheme, n)
+    if None in slots:
+        return 0
+    twice = slots + slots
+    unlike = 0
+    while unlike < len(slots):
+        rows = [twice[c:c + unlike + 1] for c in range(len(slots))]
+        if any(len(set(row)) < len(row) for row in rows):
+            break
+        unlike += 1
+    return unlike
+
+
+def plain_room(scheme, n, most=100):
+    """At how many values a ring into which k values were put is FULL; None if at none up to `most`."""
+    if scheme.when == "over":
+        return None
+    ring = PlainRing(scheme, n)
+    for k in range(most + 1):
+        ring.p, ring.number, ring.note = k % ring.modulus, k, k > 0
+        if ring.full():
+            return k
+    return None
+
+
+def plain_played(watch, pieces):
+    """Do all deeds of pieces one by one."""
+    for times, word in pieces:
+        for _ in range(times):
+            if word != "take":
+                watch.put()
+            if word != "put":
+                watch.take()
+    return watch.broken
+
+
+def plain_copy(watch):
+    """A watch in the same state, whose values are told from the last one that was laid, at 0."""
+    scheme, n = watch.ring.scheme, watch.ring.n
+    copied = PlainWatch(scheme, n)
+    ring, old = copied.ring, watch.ring
+    ring.p, ring.t, ring.number, ring.note = old.p, old.t, old.number, old.note
+    held = {value: value - watch.laid for value in watch.queue}
+    # A value that the queue does not hold is wrong wherever it is taken, whichever it is.
+    ring.cells = [cell if cell is None else held.get(cell, -10 ** 6) for cell in old.cells]
+    copied.queue = list(held.values())
+    return copied
+
+
+def reached(scheme, n, most=20000):
+    """All states that deeds lead to, one watch each; ends behind the first that is broken."""
+    new = [plain_copy(PlainWatch(scheme, n))]
+    met = set()
+    while new:
+        watch = new.pop()
+        for deed in (watch.put, watch.take):
+            following = plain_copy(watch)
+            following.put() if deed == watch.put else following.take()
+            yield following
+            if following.broken:
+                return
+            following = plain_copy(following)
+            key = (following.ring.p, following.ring.t, following.ring.number, following.ring.note,
+                   tuple(following.ring.cells), tuple(following.queue))
+            if key not in met:
+                met.add(key)
+                new.append(following)
+                assert len(met) < most, (scheme, n)
+
+
+MORE_FULLS = FULLS + (("diff", "=", Form(1, -1)), ("diff", "=", Form(0, 1)), ("diff", "=", Form(1, 1)),
+                      ("diff", ">=", Form(0, 2)), ("diff", ">=", Form(2, 0)), ("count", "=", Form(0, 1)),
+                      ("count", "=", Form(0, -1)), ("count", "=", Form(2, -1)), ("count", ">=", Form(0, -2)),
+                      ("count", ">=", Form(0, 2)))
+MORE_WRAPS = WRAPS + (Form(0, 1), Form(1, -1), Form(1, 2), Form(2, -1), Form(2, 1), Form(0, 8), Form(1, -3), 4)
+
+
+def schemes_of(wraps, fulls=MORE_FULLS, empties=("same", "count", "note"), whens=("refuse", "drop", "over")):
+    """The schemes with these parts, for each slot that goes with the wrap."""
+    for wrap, slot, empty, full, when in product(wraps, ("rest", "off", "mask"), empties, fulls, whens):
+        if slot != "mask" or not isinstance(wrap, Form):
+            yield scheme_of(wrap, slot, empty, full, when)
+
+
+def sized(schemes, sizes):
+    """Each scheme with each size at which it has a ring."""
+    for scheme, n in product(list(schemes), sizes):
+        if plain_modulus(scheme.wrap, n) >= 1:
+            yield scheme, n

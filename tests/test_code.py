@@ -22,10 +22,13 @@ CLASSES = {
                "Watch": ["put", "take", "broken", "deeds", "held"]},
     "runs": {"Run": ["pieces", "all_deeds", "__add__", "__iadd__", "__mul__", "__eq__", "__len__", "__getitem__",
                      "read"]},
+    "tracks": {"Track": ["play", "put_count", "taken", "held", "deeds", "broken"]},
+    "verdicts": {"Verdict": ["__bool__", "cause", "room", "window", "run"]},
 }
 
 FUNCTIONS = {"forms": ["show_form"], "schemes": ["show_scheme"], "runs": ["show_run"],
-             "slots": ["modulus_of", "slot_of", "gap_of"]}
+             "slots": ["modulus_of", "slot_of", "gap_of"], "rooms": ["room_of"],
+             "windows": ["window_of", "alike_of"], "verdicts": ["verdict_of"]}
 
 
 def named(module, name):

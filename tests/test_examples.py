@@ -7,7 +7,12 @@ from ringindexes.queues import Watch
 from ringindexes.runs import Run, show_run
 from ringindexes.schemes import Scheme, show_scheme
 from ringindexes.slots import gap_of, modulus_of, slot_of
+from ringindexes.tracks import Track
+from ringindexes.verdicts import verdict_of
+from ringindexes.windows import alike_of, window_of
 from tests.helpers import RingCase
+
+SMALL = "M = 2**3; slot rest; empty same; full diff = N; when refuse"
 
 
 class ExamplesTest(RingCase):
@@ -28,11 +33,31 @@ class ExamplesTest(RingCase):
         self.assertEqual(self.assert_error(NoScheme, Scheme.read, "M = N").part, "text")
 
     def test_slots(self):
-        scheme = Scheme.read("M = 2**3; slot rest; empty same; full diff = N; when refuse")
+        scheme = Scheme.read(SMALL)
         self.assertEqual([modulus_of(scheme, 3), slot_of(scheme, 3, 7), gap_of(scheme, 3, 6)], [8, 1, 2])
 
+    def test_windows(self):
+        scheme = Scheme.read(SMALL)
+        self.assertEqual([window_of(scheme, 3), alike_of(scheme, 3)], [2, (6, 2)])
+
+    def test_verdicts(self):
+        verdict = verdict_of(Scheme.read(SMALL), 3)
+        self.assertEqual([bool(verdict), verdict.cause, verdict.room, verdict.window, show_run(verdict.run)],
+                         [False, "slot", 3, 2, "6 pair; 3 put; 1 take"])
+
+    def test_tracks(self):
+        track = Track(Scheme.read(SMALL), 3)
+        self.assertEqual(track.play(Run.read("6 pair; 3 put; 1 take")), ("wrong", 16, 7, 9))
+
+    def test_a_verdict_at_a_great_size(self):
+        scheme = Scheme.doubled().remade(wrap=Form(3, 0))
+        run = verdict_of(scheme, 10 ** 30).run
+        self.assertEqual([show_run(run), Track(scheme, 10 ** 30).play(run)],
+                         ["2000000000000000000000000000000 pair; 1 put",
+                          ("outside", 4000000000000000000000000000001, None, None)])
+
     def test_the_run_of_a_verdict_done_by_a_watch(self):
-        scheme = Scheme.read("M = 2**3; slot rest; empty same; full diff = N; when refuse")
+        scheme = Scheme.read(SMALL)
         run = Run.read("6 pair; 3 put; 1 take")
         watch = Watch(scheme, 3)
         for times, word in run.pieces:
@@ -51,9 +76,8 @@ class ExamplesTest(RingCase):
         self.assertEqual(watch.broken, ("outside", 17, None, None))
 
     def test_the_run_of_the_console(self):
-        watch = Watch(Scheme.read("M = N; slot rest; empty note; full note; when refuse"), 7)
-        for _ in range(9):
-            watch.put()
-        for _ in range(2):
-            watch.take()
-        self.assertEqual([watch.broken, watch.held], [None, 5])
+        scheme = Scheme.read("M = N; slot rest; empty note; full note; when refuse")
+        track = Track(scheme, 7)
+        self.assertIsNone(track.play(Run.read("9 put; 2 take")))
+        verdict = verdict_of(scheme, 7)
+        self.assertEqual([track.held, verdict.cause, verdict.room], [5, "right", 7])
