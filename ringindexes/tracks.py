@@ -9,10 +9,10 @@ from ringindexes.slots import modulus_of, slot_at
 class Track:
     """What a watch of a scheme would be, at any size.
 
-    As nothing has broken, P is the number of values laid and T that of values taken, both modulo
-    M, and the number is their difference. So is the note, in effect: a take that is right leaves
-    less than M things, so P = T tells a full ring behind a put alone. A ring that does not say
-    over is FULL exactly where as many things are held as it has room for.
+    As long as nothing has broken, P is the number of values laid and T that of values taken, both
+    modulo M, and the number is their difference. The note need not be kept: a take that is right
+    leaves less than M things, so where things are held and P = T, the last of these deeds was a
+    put. A ring that does not say over is FULL exactly where it holds as many things as its room is.
     """
 
     def __init__(self, scheme, n):

@@ -24,11 +24,20 @@ CLASSES = {
                      "read"]},
     "tracks": {"Track": ["play", "put_count", "taken", "held", "deeds", "broken"]},
     "verdicts": {"Verdict": ["__bool__", "cause", "room", "window", "run"]},
+    "sizesets": {"SizeSet": ["early", "start", "period", "rests", "__contains__", "__and__", "__or__", "__le__",
+                             "__eq__", "__bool__", "below", "least", "none", "full_set"]},
+    "blocks": {"BlockRing": ["started", "put_block", "take_block", "held", "both_at", "__getitem__", "__bool__"]},
+    "late": {"Log": ["__iadd__", "put_count", "held", "__getitem__"],
+             "Reader": ["__call__", "believed", "lag", "rest"],
+             "Belief": ["believed", "lost", "looks_empty", "number_right", "place_right", "__bool__"]},
 }
 
 FUNCTIONS = {"forms": ["show_form"], "schemes": ["show_scheme"], "runs": ["show_run"],
              "slots": ["modulus_of", "slot_of", "gap_of"], "rooms": ["room_of"],
-             "windows": ["window_of", "alike_of"], "verdicts": ["verdict_of"]}
+             "windows": ["window_of", "alike_of"], "verdicts": ["verdict_of"],
+             "sizes": ["sizes_of", "widths_of"],
+             "blocks": ["block_parts", "blocks_right", "block_break", "block_sizes"],
+             "late": ["belief_of", "right_lags", "place_lags"]}
 
 
 def named(module, name):

@@ -1,11 +1,14 @@
 """The examples of the document."""
 
+from ringindexes.blocks import BlockRing, block_break, block_parts
 from ringindexes.counters import Counter
 from ringindexes.errors import NoScheme
 from ringindexes.forms import Form, show_form
+from ringindexes.late import belief_of
 from ringindexes.queues import Watch
 from ringindexes.runs import Run, show_run
 from ringindexes.schemes import Scheme, show_scheme
+from ringindexes.sizes import sizes_of, widths_of
 from ringindexes.slots import gap_of, modulus_of, slot_of
 from ringindexes.tracks import Track
 from ringindexes.verdicts import verdict_of
@@ -81,3 +84,31 @@ class ExamplesTest(RingCase):
         self.assertIsNone(track.play(Run.read("9 put; 2 take")))
         verdict = verdict_of(scheme, 7)
         self.assertEqual([track.held, verdict.cause, verdict.room], [5, "right", 7])
+
+    def test_sizes(self):
+        sizes = sizes_of(Scheme.masked(4))
+        self.assertEqual([sizes.early, sizes.start, sizes.period, sizes.rests, 8 in sizes, 16 in sizes],
+                         [[1, 2, 4, 8], 9, 1, [], True, False])
+
+    def test_widths(self):
+        widths = widths_of(Scheme.read("M = 2**1; slot rest; empty count; full count = 2; when refuse"), 3)
+        self.assertEqual([widths.early, widths.start, widths.period, widths.rests, 101 in widths],
+                         [[], 1, 2, [1], True])
+
+    def test_the_sizes_of_the_console(self):
+        sizes = sizes_of(Scheme.read("M = N; slot rest; empty note; full note; when refuse"))
+        self.assertEqual([sizes.early, sizes.start, sizes.rests, sizes.period], [[], 1, [0], 1])
+
+    def test_blocks(self):
+        self.assertEqual(block_parts(Scheme.doubled(), 5, 8, 4), [(3, 2), (0, 2)])
+        ring = BlockRing.started(Scheme.doubled(), 4, 7)
+        self.assertEqual([ring.put_block(1, 2, 3), ring.take_block(2), ring.held, ring.both_at,
+                          ring.put_block(4, 5, 6, 7)], [True, (1, 2), 1, (2, 1), False])
+        scheme = Scheme.read("M = N + 3; slot rest; empty same; full diff = 2; when refuse")
+        self.assertEqual(block_break(scheme, 5), (7, (("put", 2), ("take", 1), ("take", 1))))
+
+    def test_late_takers(self):
+        scheme = Scheme.read("M = 2*N; slot rest; empty same; full next; when over")
+        belief = belief_of(scheme, 4, 13)
+        self.assertEqual([belief.believed, belief.lost, belief.number_right, belief.place_right, bool(belief)],
+                         [5, 1, False, True, False])

@@ -162,8 +162,9 @@ class TrackTest(RingCase):
 
     def test_great_sizes_break(self):
         track = Track(scheme_of(THIRD, "off", "same", ("diff", "=", N)), GREATEST)
-        self.assertEqual(track.play(Run((MOST, "pair"))), ("outside", 4 * GREATEST + 1, None, None))
-        self.assert_state(track, 2 * GREATEST, 2 * GREATEST, 0, 4 * GREATEST + 1, ("outside", 4 * GREATEST + 1, None, None))
+        broken = ("outside", 4 * GREATEST + 1, None, None)
+        self.assertEqual(track.play(Run((MOST, "pair"))), broken)
+        self.assert_state(track, 2 * GREATEST, 2 * GREATEST, 0, 4 * GREATEST + 1, broken)
         track = Track(scheme_of(N, full=("note",)), GREATEST)
         broken = ("empty", GREATEST + 1, 1, None)
         self.assertEqual(track.play(Run((GREATEST, "put"), (1, "take"))), broken)

@@ -151,7 +151,8 @@ class VerdictTest(RingCase):
         self.assertEqual(verdict_of(scheme_of(one, "rest", "count", ("count", "=", one)), 5).cause, "right")
         self.assertEqual(verdict_of(scheme_of(one, "rest", "same", ("count", "=", one)), 5).cause, "empty")
         self.assertEqual(verdict_of(scheme_of(one), 5).cause, "shut")
-        self.assertEqual(show_run(verdict_of(scheme_of(one, "off", "count", ("count", "=", N)), 5).run), "2 put; 1 take")
+        off = verdict_of(scheme_of(one, "off", "count", ("count", "=", N)), 5)
+        self.assertEqual([off.cause, show_run(off.run)], ["slot", "2 put; 1 take"])
 
     def test_great_sizes_and_moduli(self):
         n, modulus = GREATEST, 2 ** 100
