@@ -4,8 +4,6 @@ Counters with the same gap form classes, of which there are few at any modulus; 
 first counter at or behind a given one is enough to decide where something goes wrong first.
 """
 
-from ringindexes.helpers import lesser
-
 
 def has_outside(kind, n, modulus):
     """Whether a counter is outside."""
@@ -93,16 +91,7 @@ def steps_back(kind, n, modulus, c, slot):
         # Seen from the other end, counters with their bits turned over go up.
         mask = mask_of(n, modulus)
         return steps_to_bits(modulus, mask, mask - slot, modulus - 1 - c)
-    if kind == "off":
-        return steps_back_off(n, modulus, c, slot)
+    # Slots of counters that are not outside are rests for off, too.
     if c >= slot:
         return (c - slot) % n
     return c + 1 + (modulus - 1 - slot) % n
-
-
-def steps_back_off(n, modulus, c, slot):
-    """The steps back where only the counters slot and slot + n have the slot."""
-    back = (c - slot) % modulus
-    if slot + n < modulus:
-        return lesser(back, (c - slot - n) % modulus)
-    return back

@@ -127,7 +127,7 @@ class Track:
             done = 1
         if self._broken is not None:
             return
-        right = lesser(times - done, self._right_pairs(times - done))
+        right = self._right_pairs(times - done)
         self._put_count = self._put_count + right
         self._taken = self._taken + right
         self._deeds = self._deeds + 2 * right
