@@ -1,8 +1,10 @@
 """Blocks: several values that are put or taken at once, copied in at most two parts."""
 
 from ringindexes.errors import NotDecided, NotRight, Outside, TooLong
+from ringindexes.gaps import lowest_bit
 from ringindexes.helpers import check_size, is_whole_from, lesser
-from ringindexes.sizes import settled_sizes
+from ringindexes.rooms import room_of
+from ringindexes.sizes import right_sizes, settled_size
 from ringindexes.sizesets import set_of
 from ringindexes.slots import modulus_of, slot_at
 from ringindexes.verdicts import verdict_of
@@ -124,9 +126,13 @@ def blocks_right(scheme, n):
     """Whether all blocks come out in the order in which they were put."""
     check_size(n)
     check_refuses(scheme)
-    verdict = verdict_of(scheme, n)
+    return bool(verdict_of(scheme, n)) and right_for_blocks(scheme, n)
+
+
+def right_for_blocks(scheme, n):
+    """Whether all blocks come out in order where a scheme that refuses is right."""
     # Behind the last slot a block goes on at the first one, and its counters do so if laps end there.
-    return bool(verdict) and (verdict.room == 1 or modulus_of(scheme, n) % n == 0)
+    return modulus_of(scheme, n) % n == 0 or room_of(scheme, n) == 1
 
 
 def block_break(scheme, n):
@@ -142,13 +148,9 @@ def block_break(scheme, n):
     return modulus - 1, BREAKING_DEEDS
 
 
-def lowest_bit(n):
-    """The greatest power of two that divides n."""
-    return n & -n
-
-
 def block_sizes(scheme):
     """The set of all sizes at which all blocks come out in order."""
     check_refuses(scheme)
-    start, period = settled_sizes(scheme)
-    return set_of([n for n in range(1, start + period) if blocks_right(scheme, n)], start, period)
+    # Above the modulus only blocks of one value are right, or the modulus is a multiple of all sizes.
+    start = settled_size(scheme)
+    return set_of([n for n in right_sizes(scheme, start + 1) if right_for_blocks(scheme, n)], start, 1)

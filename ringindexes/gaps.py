@@ -65,6 +65,11 @@ def mask_gaps(n, modulus, c):
     return gaps
 
 
+def lowest_bit(n):
+    """The greatest power of two that divides n."""
+    return n & -n
+
+
 def mask_of(n, modulus):
     """The bits of counters that select the slot."""
     return (n - 1) & (modulus - 1)

@@ -14,7 +14,7 @@ class Slots:
     def __init__(self, n):
         if not is_whole_from(n, 1, MOST_SLOTS):
             raise NoSize("a ring with slots has 1 to 10 ** 4 of them")
-        self._laid = [None] * n
+        self._laid = [None for _ in range(n)]
 
     def __getitem__(self, at):
         self._check_slot(at)

@@ -9,12 +9,17 @@ def room_of(scheme, n):
     modulus = modulus_of(scheme, n)
     if scheme.when == "over":
         return None
-    kind = scheme.full[0]
+    return room_at(scheme.full, modulus, n)
+
+
+def room_at(full, modulus, n):
+    """The room of a ring that does not say over, where the modulus is known."""
+    kind = full[0]
     if kind == "next":
         return modulus - 1
     if kind == "note":
         return modulus
-    return limit_room(scheme.full, modulus, limit_at(scheme.full, n))
+    return limit_room(full, modulus, limit_at(full, n))
 
 
 def limit_room(full, modulus, limit):

@@ -120,7 +120,7 @@ def is_ascending(thing, low, high):
 
 def marks_of(numbers, end):
     """For each number below end whether it is one of these."""
-    marks = [False] * end
+    marks = [False for _ in range(end)]
     for number in numbers:
         marks[number] = True
     return marks

@@ -1,5 +1,7 @@
 """The sizes and widths at which a scheme is right: point 25, and (c) of point 3."""
 
+import sys
+
 from ringindexes.counters import Counter
 from ringindexes.errors import NoSize, TooLong
 from ringindexes.forms import Form
@@ -19,6 +21,22 @@ LIMIT_FULLS = tuple((kind, sign, limit) for kind in ("diff", "count") for sign i
 
 def parts_of(sizes):
     return [sizes.early, sizes.start, sizes.period, sizes.rests]
+
+
+def calls_of(call, *args):
+    """How many functions of Python a call calls, itself included."""
+    many = 0
+
+    def count(frame, event, arg):
+        nonlocal many
+        many += event == "call"
+    before = sys.getprofile()
+    sys.setprofile(count)
+    try:
+        call(*args)
+    finally:
+        sys.setprofile(before)
+    return many
 
 
 class SizesTest(RingCase):
@@ -85,6 +103,28 @@ class SizesTest(RingCase):
         self.assertEqual(parts_of(sizes_of(scheme)), [[], 1, 1024, [0]])
         scheme = scheme_of(10, "mask", "note", ("note",))
         self.assertEqual(parts_of(sizes_of(scheme)), [[], 1, 1024, [0]])
+
+    def test_masks_with_all_rooms_beside_verdicts(self):
+        for width in (1, 2, 3, 4, 6):
+            for limit in range(-1, 2 ** width + 2 if width < 5 else 21):
+                for kind, empty, sign in (("diff", "same", "="), ("diff", "note", ">="), ("count", "count", "=")):
+                    self.assert_sizes(scheme_of(width, "mask", empty, (kind, sign, Form(0, limit))),
+                                      [*range(1, 3 * 2 ** width + 30), 997, 1024, GREATEST - 1, GREATEST])
+            for slope, base in ((1, -20), (1, -1), (1, 0), (1, 1), (1, 20), (2, -20), (2, 0), (4, -20), (4, 20)):
+                for kind in ("diff", "count"):
+                    scheme = scheme_of(width, "mask", "note", (kind, "=", Form(slope, base)))
+                    self.assert_sizes(scheme, [*range(1, 3 * 2 ** width + 60), 128, 997, 1024, GREATEST])
+
+    def test_sets_are_told_by_few_calls(self):
+        # As many calls as there are sizes to be told apart, a few for each: sets are asked for very often.
+        for scheme in (Scheme.spare(), Scheme.doubled(), Scheme.counted(), Scheme.noted()):
+            self.assertLess(calls_of(sizes_of, scheme), 150)
+        for width, most in ((3, 400), (6, 1000), (10, 12000)):
+            for scheme in (Scheme.masked(width), Scheme.masked(width).remade(slot="rest"),
+                           Scheme.masked(width).remade(full=("next",))):
+                self.assertLess(calls_of(sizes_of, scheme), most)
+        for wrap, limit in ((Form(4, -20), Form(1, -20)), (Form(0, 20), Form(4, 20))):
+            self.assertLess(calls_of(sizes_of, scheme_of(wrap, full=("diff", "=", limit))), 700)
 
     def test_the_set_is_of_class_size_set(self):
         sizes = sizes_of(scheme=Scheme.masked(4))
