@@ -25,9 +25,14 @@ def lesser(one, other):
     return one if one < other else other
 
 
+def is_size(thing):
+    """Whether the object is a size."""
+    return is_whole_from(thing, 1, GREATEST_SIZE)
+
+
 def check_size(n):
     """NoSize for any object that is no size."""
-    if not is_whole_from(n, 1, GREATEST_SIZE):
+    if not is_size(n):
         raise NoSize("a size is an integer from 1 to 10 ** 30")
 
 

@@ -5,9 +5,11 @@ from ringindexes.forms import Form, show_form
 from ringindexes.helpers import is_whole_from, is_word_of, read_number
 
 PART_NAMES = ("wrap", "slot", "empty", "full", "when")
-SLOT_WORDS = ("rest", "off", "mask")
-EMPTY_WORDS = ("same", "count", "note")
-WHEN_WORDS = ("refuse", "drop", "over")
+PART_WORDS = {
+    "slot": ("rest", "off", "mask"),
+    "empty": ("same", "count", "note"),
+    "when": ("refuse", "drop", "over"),
+}
 MEASURES = ("diff", "count")
 SIGNS = ("=", ">=")
 PLAIN_FULLS = ("next", "note")
@@ -132,6 +134,11 @@ class Scheme:
         return scheme
 
 
+def copied_scheme(scheme):
+    """A new scheme with the same parts."""
+    return Scheme(wrap=scheme.wrap, slot=scheme.slot, empty=scheme.empty, full=scheme.full, when=scheme.when)
+
+
 def parts_of(scheme):
     """The five parts, in order."""
     return scheme.wrap, scheme.slot, scheme.empty, scheme.full, scheme.when
@@ -145,17 +152,21 @@ def check_part_name(part):
 
 def first_wrong(parts):
     """The name of the first part that is none beside the ones ahead of it, or None."""
-    if not is_wrap(parts["wrap"]):
-        return "wrap"
-    if not is_slot(parts["slot"], parts["wrap"]):
-        return "slot"
-    if not is_word_of(parts["empty"], EMPTY_WORDS):
-        return "empty"
-    if not is_full(parts["full"]):
-        return "full"
-    if not is_word_of(parts["when"], WHEN_WORDS):
-        return "when"
+    for part in PART_NAMES:
+        if not is_part(part, parts[part]):
+            return part
+        if part == "slot" and parts["slot"] == "mask" and isinstance(parts["wrap"], Form):
+            return "slot"
     return None
+
+
+def is_part(part, thing):
+    """Whether the object is a value that the part of this name can have."""
+    if part == "wrap":
+        return is_wrap(thing)
+    if part == "full":
+        return is_full(thing)
+    return is_word_of(thing, PART_WORDS[part])
 
 
 def is_wrap(thing):
@@ -168,13 +179,6 @@ def is_small_form(thing):
     if not isinstance(thing, Form):
         return False
     return 0 <= thing.slope <= GREATEST_SLOPE and -GREATEST_BASE <= thing.base <= GREATEST_BASE
-
-
-def is_slot(thing, wrap):
-    """Whether the object selects slots beside this wrap."""
-    if not is_word_of(thing, SLOT_WORDS):
-        return False
-    return thing != "mask" or not isinstance(wrap, Form)
 
 
 def is_full(thing):
