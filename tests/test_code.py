@@ -30,6 +30,16 @@ CLASSES = {
     "late": {"Log": ["__iadd__", "put_count", "held", "__getitem__"],
              "Reader": ["__call__", "believed", "lag", "rest"],
              "Belief": ["believed", "lost", "looks_empty", "number_right", "place_right", "__bool__"]},
+    "hands": {"Hands": ["writing", "reading", "looking", "telling", "way", "scheme", "change", "remade", "__eq__"]},
+    "bench": {"Bench": ["step", "play", "broken", "levels", "steps"]},
+    "handcheck": {"HandsVerdict": ["cause", "start", "run", "__bool__"]},
+    "several": {"Putters": ["step", "play", "broken", "levels", "steps"],
+                "Fan": ["play", "broken", "put_count", "deeds", "__getitem__"],
+                "SeveralVerdict": ["cause", "start", "run", "__bool__"]},
+    "changes": {"Menu": ["__len__", "__getitem__", "__call__"]},
+    "sessions": {"Session": ["__getitem__", "__setitem__", "__contains__", "__len__", "keep", "names", "remove",
+                             "change", "play", "played", "break_at", "trial", "within", "attempt", "trying"]},
+    "console": {"Console": ["say", "session"]},
 }
 
 FUNCTIONS = {"forms": ["show_form"], "schemes": ["show_scheme"], "runs": ["show_run"],
@@ -37,7 +47,10 @@ FUNCTIONS = {"forms": ["show_form"], "schemes": ["show_scheme"], "runs": ["show_
              "windows": ["window_of", "alike_of"], "verdicts": ["verdict_of"],
              "sizes": ["sizes_of", "widths_of"],
              "blocks": ["block_parts", "blocks_right", "block_break", "block_sizes"],
-             "late": ["belief_of", "right_lags", "place_lags"]}
+             "late": ["belief_of", "right_lags", "place_lags"],
+             "handcheck": ["hands_verdict", "shortest_break"], "several": ["putters_verdict", "fan_verdict"],
+             "papers": ["paper_of", "hands_paper"], "checker": ["check_paper"],
+             "changes": ["least_sets", "reason_of"]}
 
 
 def named(module, name):
@@ -63,6 +76,41 @@ class CodeTest(unittest.TestCase):
             for node in ast.walk(ast.parse(path.read_text())):
                 if isinstance(node, ast.FunctionDef):
                     self.assertLessEqual(node.end_lineno - node.lineno + 1, 40, f"{path.name}: {node.name}")
+
+    def test_lists_whose_items_change_are_made_by_comprehensions(self):
+        # Beside classes with a product of their own, `[x] * n` is not plainly a new list.
+        for path in FILES:
+            for node in ast.walk(ast.parse(path.read_text())):
+                if isinstance(node, ast.BinOp) and isinstance(node.op, ast.Mult):
+                    for side in (node.left, node.right):
+                        self.assertNotIsInstance(side, (ast.List, ast.ListComp), f"{path.name}: {node.lineno}")
+
+    def test_properties_have_names_of_their_own(self):
+        properties, settable, methods, assigned = set(), set(), set(), set()
+        for path in FILES:
+            for node in ast.walk(ast.parse(path.read_text())):
+                if isinstance(node, ast.FunctionDef):
+                    told = [ast.unparse(decorator) for decorator in node.decorator_list]
+                    if told == ["property"]:
+                        properties.add(node.name)
+                    elif told == [f"{node.name}.setter"]:
+                        settable.add(node.name)
+                    else:
+                        methods.add(node.name)
+                elif isinstance(node, ast.Attribute) and isinstance(node.ctx, ast.Store):
+                    assigned.add(node.attr)
+        self.assertEqual(properties & methods, set())
+        self.assertEqual(assigned & (properties - settable), set())
+        self.assertEqual({name for name in assigned & methods}, set())
+
+    def test_plain_statements_alone(self):
+        barred = (ast.AugAssign, ast.GeneratorExp, ast.Lambda, ast.Global, ast.Nonlocal, ast.Set, ast.SetComp, ast.Div)
+        for path in FILES:
+            for node in ast.walk(ast.parse(path.read_text())):
+                self.assertNotIsInstance(node, barred, path.name)
+                if isinstance(node, ast.Constant):
+                    self.assertNotIsInstance(node.value, (float, complex), path.name)
+                    self.assertFalse(isinstance(node.value, str) and "%" in node.value, path.name)
 
     def test_imports_are_from_the_package(self):
         library = {"heapq", "math", "itertools", "collections", "__future__"}

@@ -1,13 +1,21 @@
 """The examples of the document."""
 
+from ringindexes.bench import Bench
 from ringindexes.blocks import BlockRing, block_break, block_parts
+from ringindexes.changes import Menu, least_sets, reason_of
+from ringindexes.checker import check_paper
+from ringindexes.console import Console
 from ringindexes.counters import Counter
 from ringindexes.errors import NoScheme
 from ringindexes.forms import Form, show_form
+from ringindexes.handcheck import hands_verdict, shortest_break
+from ringindexes.hands import Hands
 from ringindexes.late import belief_of
+from ringindexes.papers import paper_of
 from ringindexes.queues import Watch
 from ringindexes.runs import Run, show_run
 from ringindexes.schemes import Scheme, show_scheme
+from ringindexes.several import fan_verdict, putters_verdict
 from ringindexes.sizes import sizes_of, widths_of
 from ringindexes.slots import gap_of, modulus_of, slot_of
 from ringindexes.tracks import Track
@@ -112,3 +120,33 @@ class ExamplesTest(RingCase):
         belief = belief_of(scheme, 4, 13)
         self.assertEqual([belief.believed, belief.lost, belief.number_right, belief.place_right, bool(belief)],
                          [5, 1, False, True, False])
+
+    def test_benches(self):
+        bench = Bench(Hands(Scheme.doubled()), 2)
+        self.assertEqual([bench.step("p"), bench.step("t"), bench.step("p"), bench.step("p"), bench.levels,
+                          bench.steps], ["look", "look", "write", "tell", (0, 1, 1), 4])
+
+    def test_verdicts_on_hands(self):
+        self.assertEqual([hands_verdict(Hands(Scheme.doubled(), reading="last"), 2).cause,
+                          hands_verdict(Hands(Scheme.spare(), reading="last"), 3).cause,
+                          shortest_break(Hands(Scheme.doubled(), writing="last"), 2)], ["read", "right", "pptt"])
+
+    def test_several_hands(self):
+        self.assertEqual([putters_verdict(Scheme.doubled(), 4, 2).cause,
+                          putters_verdict(Scheme.doubled(), 4, 2, tell="any").cause,
+                          fan_verdict(Scheme.doubled(), 4, 2, full="low").cause], ["right", "tell", "low"])
+
+    def test_papers(self):
+        paper = paper_of(Scheme.doubled(), 3)
+        self.assertEqual([paper, check_paper(paper), check_paper(paper[:3] + (1, 3))],
+                         [("right", "M = 2*N; slot off; empty same; full diff = N; when refuse", 3, 2, 0), True, False])
+
+    def test_menus(self):
+        menu = Menu(Scheme.read(SMALL), ("full", ("diff", "=", Form(0, 2))), ("wrap", Form(2, 0)), ("slot", "mask"))
+        self.assertEqual([least_sets(menu, 3), reason_of(menu, [2], 3)[0]], [[[0], [1]], "slot"])
+
+    def test_the_console(self):
+        console = Console()
+        console.say("keep a M = N; slot rest; empty note; full note; when refuse")
+        self.assertEqual([console.say("verdict a 7"), console.say("sizes a"), console.say("track a 7 9 put; 2 take"),
+                          console.say("names")], ["right 7", "-; from 1: 0 of 1", "held 5", "a"])
