@@ -1,5 +1,7 @@
 """Menus of changes, and the least sets of them that make a scheme reach a goal."""
 
+from math import lcm
+
 from ringindexes.errors import NoChange, NoScheme, NoSize, TooLong
 from ringindexes.forms import Form
 from ringindexes.helpers import is_size, is_whole_from, is_word_of
@@ -143,8 +145,8 @@ def first_missed(scheme, goal):
     if not isinstance(goal, SizeSet):
         return None if verdict_of(scheme, goal) else goal
     sizes = sizes_of(scheme)
-    # Behind both starts what is told of a size is told again in as many sizes as both periods together make.
-    end = goal.start + sizes.start + goal.period * sizes.period
+    # Behind both starts what both sets tell of sizes repeats itself with a common period.
+    end = goal.start + sizes.start + lcm(goal.period, sizes.period)
     for n in goal.below(end):
         if n not in sizes:
             return n

@@ -1,6 +1,6 @@
 """The checker of papers, whoever wrote them: it divides, plays and compares, and searches for nothing."""
 
-from ringindexes.bench import HAND_WORDS, Bench
+from ringindexes.bench import Bench
 from ringindexes.errors import NoHands, NoRing, NoRun, NoScheme, NoSteps, NotDecided, NotRight
 from ringindexes.handcheck import hands_cause
 from ringindexes.hands import SWITCH_NAMES, Hands
@@ -9,7 +9,6 @@ from ringindexes.papers import divided
 from ringindexes.runs import Run
 from ringindexes.schemes import Scheme
 from ringindexes.slots import wrap_at
-from ringindexes.stepping import check_steps
 from ringindexes.tracks import Track
 from ringindexes.verdicts import verdict_of
 
@@ -86,7 +85,6 @@ def hands_break(hands, n, start, pieces):
     if not isinstance(pieces, tuple):
         return False
     try:
-        check_steps(pieces, HAND_WORDS)
         broken = Bench(hands, n, at=start).play(*pieces)
     except (NoSteps, NotRight):
         return False

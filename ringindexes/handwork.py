@@ -45,8 +45,6 @@ class Work:
         self._kind = hands.way
         self._keeps = hands.looking == "kept"
         self._notes_by_telling = hands.way == "note" and hands.telling == "one"
-        # Beyond its goal a putter still stays if it asks for at least the limit.
-        self._stays_beyond = len(scheme.full) == 3 and scheme.full[1] == ">="
         self._slot = scheme.slot
         self._size = n
         self._modulus = modulus_of(scheme, n)
@@ -180,7 +178,9 @@ class Work:
         """How many cycles a hand that goes on alone does ahead of the look at which it stays."""
         moved, number, note = hand.copies if self._keeps else self._told_to(hand)
         if self._kind == "count":
-            return self._cycles_by_number(hand, number)
+            # Looks pass only ahead of the goal, and a telling goes one step; so no number beyond it is seen.
+            ahead = (hand.goal - number) * hand.sign
+            return ENDLESS if self._keeps and ahead > 0 else ahead
         ahead = (moved + hand.goal - hand.moved) % self._modulus
         if self._kind == "counters" or note == hand.note:
             return ahead
@@ -188,11 +188,3 @@ class Work:
             return ENDLESS
         # Its first telling sets the note with which it stays when the counters meet.
         return self._modulus if ahead == 0 else ahead
-
-    def _cycles_by_number(self, hand, number):
-        ahead = (hand.goal - number) * hand.sign
-        if ahead == 0 or (ahead < 0 and hand.sign > 0 and self._stays_beyond):
-            return 0
-        if ahead < 0 or self._keeps:
-            return ENDLESS
-        return ahead

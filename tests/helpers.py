@@ -1,5 +1,6 @@
-"""What the tests share: a check for the very class of an error, and objects of many kinds."""
+"""What the tests share: a check for the very class of an error, a count of calls, and objects of many kinds."""
 
+import sys
 import unittest
 
 from ringindexes.counters import Counter
@@ -11,6 +12,22 @@ from ringindexes.schemes import Scheme
 NO_INTEGERS = [True, False, None, "", "1", "N", b"1", [], [1], (), (1,), {}, {1: 1}, object(), int]
 
 NO_SIZES = NO_INTEGERS + [0, -1, 10 ** 30 + 1, 10 ** 40, Form(0, 3), Counter(8, 3), Scheme.spare()]
+
+
+def calls_of(call, *args, **told):
+    """How many functions of Python a call calls, itself included."""
+    many = 0
+
+    def count(frame, event, arg):
+        nonlocal many
+        many += event == "call"
+    before = sys.getprofile()
+    sys.setprofile(count)
+    try:
+        call(*args, **told)
+    finally:
+        sys.setprofile(before)
+    return many
 
 
 class RingCase(unittest.TestCase):

@@ -353,6 +353,14 @@ class FanTest(SeveralCase):
             self.assertIsNone(other.broken)
             self.assertEqual(other.play((MOST, "p")), fan.broken)
 
+    def test_the_start_is_zero_unless_told(self):
+        pieces = ((3, "p"), (3, "a"), (3, "b"), (2, "p"), (2, "b"), (9, "p"))
+        # From 0 on the second taker's counter is 5, from 1 on it has wrapped to 0.
+        told = [Fan(Scheme.doubled(), 3, 2, full="low", **at) for at in ({}, {"at": 0}, {"at": 1})]
+        played = [fan.play(*pieces) for fan in told]
+        self.assertEqual([played[0], fan_state(told[0], 2)], [played[1], fan_state(told[1], 2)])
+        self.assertEqual([played[0], played[2]], [None, (15, 7)])
+
     def test_a_taker_that_has_taken_all(self):
         fan = Fan(Scheme.doubled(), 3, 2)
         fan.play((5, "a"))

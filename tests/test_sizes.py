@@ -1,7 +1,5 @@
 """The sizes and widths at which a scheme is right: point 25, and (c) of point 3."""
 
-import sys
-
 from ringindexes.counters import Counter
 from ringindexes.errors import NoSize, TooLong
 from ringindexes.forms import Form
@@ -9,7 +7,7 @@ from ringindexes.schemes import Scheme
 from ringindexes.sizes import sizes_of, widths_of
 from ringindexes.sizesets import SizeSet
 from ringindexes.verdicts import verdict_of
-from tests.helpers import NO_INTEGERS, RingCase
+from tests.helpers import NO_INTEGERS, RingCase, calls_of
 from tests.models import FULLS, N, scheme_of, schemes_of
 
 GREATEST = 10 ** 30
@@ -21,22 +19,6 @@ LIMIT_FULLS = tuple((kind, sign, limit) for kind in ("diff", "count") for sign i
 
 def parts_of(sizes):
     return [sizes.early, sizes.start, sizes.period, sizes.rests]
-
-
-def calls_of(call, *args):
-    """How many functions of Python a call calls, itself included."""
-    many = 0
-
-    def count(frame, event, arg):
-        nonlocal many
-        many += event == "call"
-    before = sys.getprofile()
-    sys.setprofile(count)
-    try:
-        call(*args)
-    finally:
-        sys.setprofile(before)
-    return many
 
 
 class SizesTest(RingCase):
